@@ -59,7 +59,7 @@ func TestShortRows(t *testing.T) {
 	}
 }
 
-// wrongForms are such as are no number's that a text may begin with here.
+// wrongForms are what may be written for the number n, but makes no bundle and no message.
 func wrongForms(n string) []string {
 	return []string{
 		"", n, "0" + n + ":", "00" + n + ":", "+" + n + ":", "-" + n + ":", " " + n + ":", n + " :", n + "::", ":" + n + ":", n + ";", n + ".0:", n + "e0:", "0x" + n + ":", "_" + n + ":", n + "_:", ":", "a:", "/:", ";:", "٣:", "\xff:", "-:", "+:", " :", "/" + n + ":", ":" + n, n + "\x00:",
