@@ -2,6 +2,7 @@ package codec_test
 
 import (
 	"fmt"
+	"regexp"
 	"slices"
 	"strings"
 	"testing"
@@ -126,6 +127,34 @@ func TestTooMuch(t *testing.T) {
 		for _, ahead := range words("", "1:", "1:0:", "1:0:0:", "1:0:0:0:", "2:0:0:0:", "3:0:0:7:") {
 			corrupt(t, []byte(ahead+s))
 		}
+	}
+}
+
+// TestPastTheEnd: numbers of texts that are a little greater than what is left behind them; with the number itself there would be enough.
+func TestPastTheEnd(t *testing.T) {
+	number := regexp.MustCompile(`[0-9]+:`)
+	wrong := 0
+	for _, s := range words("1:7:1:a0:0:", "2:7:1:a0:0:7:1:b0:0:", "1:10:1:a1:1:b0:", "1:1:1:a0:0:0:", "1:2:1:a1:b1:1:c0:0:", "1:0:1:2:ab0:0:", "2:0:0:0:1:7:1:a0:0:", "1:1:ab", "1:1:a", "1:1:1:a", "1:0:1:1:a", "2:0:0:0:1:7:1:a0", "1:0:", "2:0:4:abcd") {
+		for _, at := range number.FindAllStringIndex(s, -1) {
+			left := len(s) - at[1]
+			for n := range 12 {
+				text := []byte(fmt.Sprint(s[:at[0]], left+n, ":", s[at[1]:]))
+				for _, e := range []api.Errno{getBundle(t, text), get(t, text)} {
+					if e != api.OK {
+						wrong++
+					}
+				}
+			}
+		}
+	}
+	if wrong < 1000 {
+		t.Errorf("only %d were wrong", wrong)
+	}
+	for _, s := range words("1:3:ab", "1:2:a", "1:1:", "2:0:4:abc") {
+		corruptBundle(t, []byte(s))
+	}
+	for _, s := range words("1:1:3:ab", "1:0:1:2:a", "2:0:0:0:1:3:ab") {
+		corrupt(t, []byte(s))
 	}
 }
 

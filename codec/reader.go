@@ -27,9 +27,10 @@ none:
 }
 
 func (r *reader) text() []byte {
-	n := min(r.number(), len(r.rest))
-	b := r.rest[:n]
-	r.rest = r.rest[n:]
+	// The number is taken off in a statement of its own: in one with what is left behind it, Go leaves open which is read first.
+	n := r.number()
+	b := r.rest[:min(n, len(r.rest))]
+	r.rest = r.rest[len(b):]
 	return b
 }
 

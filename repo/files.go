@@ -114,9 +114,10 @@ func ofInventory(b []byte) (kept, []string, bool) {
 		return max(n, 0)
 	}
 	text := func() string {
-		n := min(number(), len(rest))
-		s := rest[:n]
-		rest = rest[n:]
+		// The number is taken off in a statement of its own: in one with what is left behind it, Go leaves open which is read first.
+		n := number()
+		s := rest[:min(n, len(rest))]
+		rest = rest[len(s):]
 		return s
 	}
 	k := kept{id: text(), count: number()}

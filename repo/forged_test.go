@@ -2,6 +2,7 @@ package repo_test
 
 import (
 	"fmt"
+	"regexp"
 	"slices"
 	"strings"
 	"testing"
@@ -101,6 +102,32 @@ func TestInventories(t *testing.T) {
 	} {
 		_, got := opened(t, func() *disk.Disk { return rooted(t, text, a, b) })
 		written(t, fmt.Sprintf("Open of %q", text), got, want)
+	}
+}
+
+// TestPastTheEnd: numbers of texts that are a little greater than what is left behind them; with the number itself there would be enough.
+func TestPastTheEnd(t *testing.T) {
+	a := bytesOf(patches(tag("a")))[0]
+	name := sha.Name(a)
+	number := regexp.MustCompile(`[0-9]+:`)
+	wrong := 0
+	for _, text := range words("1:x0:0:", "3:ab", "2:a", "1:", "1:x7:0:", "1:x0:1:64:"+name, "1:a0:1:64:ab", "1:a0:2:64:"+name+"64:"+name[:9], "1:a0:1:64:") {
+		for _, at := range number.FindAllStringIndex(text, -1) {
+			left := len(text) - at[1]
+			for n := range 12 {
+				forged := fmt.Sprint(text[:at[0]], left+n, ":", text[at[1]:])
+				if _, got := opened(t, func() *disk.Disk { return rooted(t, forged, a) }); got != "" {
+					wrong++
+				}
+			}
+		}
+	}
+	if wrong < 200 {
+		t.Errorf("only %d were wrong", wrong)
+	}
+	for _, text := range words("3:ab", "2:a", "1:a0:1:64:ab") {
+		_, got := opened(t, func() *disk.Disk { return rooted(t, text, a) })
+		written(t, fmt.Sprintf("Open of %q", text), got, "!3")
 	}
 }
 

@@ -91,7 +91,8 @@ func TestLitter(t *testing.T) {
 		}
 		written(t, fmt.Sprint("Tag with room for files ", n), told(x.tag(t)), want)
 		written(t, "files", fmt.Sprint(len(x.d.Files())), fmt.Sprint(2+len(x.r.Patches())))
-		written(t, "Record", told(x.record(t, lined("1 2"))), fmt.Sprintf("x.%d", x.m.count))
+		name := told(x.record(t, lined("1 2")))
+		written(t, "Record", name, fmt.Sprintf("x.%d", x.m.count))
 	}
 }
 
